@@ -1,0 +1,1 @@
+"""Calm: hands at shared boxes, and remarks that hold."""

@@ -1,0 +1,77 @@
+"""Remarks [5], and what they ask behind a step [6]."""
+
+from calm.sums import boxes_of, put, value
+
+TRUE_ONE = ("and", ())
+FALSE_ONE = ("or", ())
+
+
+def holds(remark, book, places):
+    kind = remark[0]
+    if kind == "most":
+        return value(remark[1], book) <= 0
+    if kind == "rest":
+        return value(remark[1], book) % remark[2] == 0
+    if kind == "at":
+        return places[remark[1]] == remark[2]
+    if kind == "not":
+        return not holds(remark[1], book, places)
+    if kind == "and":
+        return all([holds(member, book, places) for member in remark[1]])
+    return any([holds(member, book, places) for member in remark[1]])
+
+
+def behind(remark, hand, sets, to):
+    return asked_ahead(remark, hand, dict(sets), to)
+
+
+def asked_ahead(remark, hand, sets, to):
+    kind = remark[0]
+    if kind == "most":
+        return ("most", put(remark[1], sets))
+    if kind == "rest":
+        return ("rest", put(remark[1], sets), remark[2])
+    if kind == "at":
+        return place_ahead(remark, hand, to)
+    if kind == "not":
+        return ("not", asked_ahead(remark[1], hand, sets, to))
+    return (kind, tuple([asked_ahead(member, hand, sets, to) for member in remark[1]]))
+
+
+def place_ahead(remark, hand, to):
+    if remark[1] != hand:
+        return remark
+    return TRUE_ONE if remark[2] == to else FALSE_ONE
+
+
+def members_of(remark):
+    if remark[0] == "not":
+        return (remark[1],)
+    return remark[1] if remark[0] in ("and", "or") else ()
+
+
+# A loop, not a recursion: what is read is counted here ahead of anything that bounds its depth.
+def parts_of(remark):
+    parts = []
+    waiting = [remark]
+    while len(waiting) > 0:
+        part = waiting.pop()
+        parts.append(part)
+        waiting.extend(members_of(part)[::-1])
+    return parts
+
+
+def boxes_in(remark):
+    boxes = []
+    for part in parts_of(remark):
+        if part[0] in ("most", "rest"):
+            boxes.extend(boxes_of(part[1]))
+    return sorted(set(boxes))
+
+
+def hands_in(remark):
+    return sorted(set([part[1] for part in parts_of(remark) if part[0] == "at"]))
+
+
+def parts_in(remark):
+    return len(parts_of(remark))
