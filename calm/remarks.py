@@ -17,8 +17,16 @@ def holds(remark, book, places):
     if kind == "not":
         return not holds(remark[1], book, places)
     if kind == "and":
-        return all([holds(member, book, places) for member in remark[1]])
-    return any([holds(member, book, places) for member in remark[1]])
+        return not any_is(False, remark[1], book, places)
+    return any_is(True, remark[1], book, places)
+
+
+# A loop that ends early: a search asks remarks of very many stands.
+def any_is(wanted, members, book, places):
+    for member in members:
+        if holds(member, book, places) == wanted:
+            return True
+    return False
 
 
 def behind(remark, hand, sets, to):
@@ -61,16 +69,24 @@ def parts_of(remark):
     return parts
 
 
-def boxes_in(remark):
+def boxes_from_left(remark):
     boxes = []
     for part in parts_of(remark):
         if part[0] in ("most", "rest"):
             boxes.extend(boxes_of(part[1]))
-    return sorted(set(boxes))
+    return boxes
+
+
+def ats_from_left(remark):
+    return [part for part in parts_of(remark) if part[0] == "at"]
+
+
+def boxes_in(remark):
+    return sorted(set(boxes_from_left(remark)))
 
 
 def hands_in(remark):
-    return sorted(set([part[1] for part in parts_of(remark) if part[0] == "at"]))
+    return sorted(set([at[1] for at in ats_from_left(remark)]))
 
 
 def parts_in(remark):

@@ -39,6 +39,7 @@ EXPRESSIONS = (
     ast.FormattedValue, ast.Name, ast.Lambda,
 )
 WALKED = {"zip", "enumerate", "reversed", "range"}
+VIEWS = {"items", "keys", "values"}
 
 
 def text_faults(text):
@@ -202,6 +203,8 @@ def call_faults(tree, methods):
         if isinstance(node.func, ast.Attribute) and node.func.attr not in METHODS | methods | DOUBLE:
             yield node, "L25 method " + node.func.attr
         if isinstance(node.func, ast.Name) and node.func.id in WALKED and not is_walked(node, parents[node]):
+            yield node, "L23 walked at once"
+        if isinstance(node.func, ast.Attribute) and node.func.attr in VIEWS and not is_walked(node, parents[node]):
             yield node, "L23 walked at once"
         if isinstance(node.func, ast.Name) and node.func.id == "set" and not is_asked(parents[node]):
             yield node, "L24 set"

@@ -1,5 +1,6 @@
 """Sums, remarks, trees and texts for the tests, the same at each run."""
 
+import itertools
 import random
 import re
 
@@ -128,3 +129,80 @@ def tight(text):
 
 def strewn(text, rng):
     return with_gaps(text, lambda: " " * rng.choice((0, 0, 1, 1, 2, 7)))
+
+
+# Small programs and remarks over them, whose stands can all be gone through.
+
+def small_sum(rng, boxes):
+    named = sorted(rng.sample(boxes, rng.randrange(min(3, len(boxes) + 1))))
+    return (rng.randrange(-3, 4), tuple((box, rng.choice((-2, -1, 1, 1, 2))) for box in named))
+
+
+def small_leaf(rng, boxes, hands):
+    kind = rng.choice(("most", "most", "most", "rest", "at", "and", "or"))
+    if kind == "most":
+        return ("most", small_sum(rng, boxes))
+    if kind == "rest":
+        return ("rest", small_sum(rng, boxes), rng.choice((2, 2, 3, 4, 12)))
+    if kind == "at":
+        hand, places = rng.choice(hands)
+        return ("at", hand, rng.randrange(places + 1))
+    return (kind, ())
+
+
+def small_remark(rng, deep, boxes, hands):
+    if deep == 0 or rng.random() < 0.3:
+        return small_leaf(rng, boxes, hands)
+    kind = rng.choice(("and", "or", "not"))
+    if kind == "not":
+        return ("not", small_remark(rng, deep - 1, boxes, hands))
+    return (kind, tuple(small_remark(rng, deep - 1, boxes, hands) for _ in range(rng.randrange(2, 4))))
+
+
+def step_sum(rng, box, boxes):
+    kind = rng.choice(("near", "near", "plain", "any"))
+    if kind == "any":
+        return small_sum(rng, boxes)
+    return (rng.choice((-1, 0, 1)), ((box, 1),) if kind == "near" else ())
+
+
+def small_step(rng, boxes, hands):
+    hand, places = rng.choice(hands)
+    many = min(rng.choice((0, 0, 1, 1, 1, 2, 3)), len(boxes))
+    sets = [(box, step_sum(rng, box, boxes)) for box in sorted(rng.sample(boxes, many))]
+    guard = ("and", ()) if rng.random() < 0.6 else small_remark(rng, 1, boxes, hands)
+    return (hand, rng.randrange(places), guard, tuple(sets), rng.randrange(places))
+
+
+def small_program(rng):
+    boxes = []
+    for name in ("x", "y", "z")[:rng.randrange(1, 4)]:
+        low = rng.randrange(-2, 2)
+        high = low + rng.randrange(3)
+        boxes.append((name, rng.choice(("", "p")), low, high, rng.randrange(low, high + 1)))
+    hands = [(name, rng.randrange(1, 4)) for name in ("p", "q", "r")[:rng.randrange(1, 4)]]
+    names = [box[0] for box in boxes]
+    steps = [small_step(rng, names, hands) for _ in range(rng.randrange(1, 13))]
+    return (boxes, hands, steps, ())
+
+
+def small_annotation(rng, program, deep=2):
+    names = [box[0] for box in program[0]]
+    annotation = {}
+    for hand, places in program[1]:
+        for place in range(places):
+            remark = small_remark(rng, deep, names, program[1])
+            annotation[(hand, place)] = remark if rng.random() < 0.5 else ("and", ())
+    return annotation
+
+
+def all_stands(program):
+    places = itertools.product(*(range(many) for hand, many in program[1]))
+    values = list(itertools.product(*(range(box[2], box[3] + 1) for box in program[0])))
+    return [(place, value) for place in places for value in values]
+
+
+def books_within(rows):
+    """All books with each box of the rows within its stretch."""
+    for values in itertools.product(*(range(low, high + 1) for box, low, high in rows)):
+        yield dict(zip((box for box, low, high in rows), values))

@@ -43,6 +43,7 @@ BROKEN = (
     ("L20", "def f(x, y):\n    return x is y\n"),
     ("L21", "def f(x: int):\n    return x\n"),
     ("L23", "def f(x):\n    y = range(x)\n    return y\n"),
+    ("L23", "def f(x):\n    y = x.items()\n    return y\n"),
     ("L24", "def f(x):\n    y = set(x)\n    return y\n"),
     ("L25", "def f(x):\n    x.sort()\n"),
     ("L27", "def f(x):\n    return 2 ** x\n"),
