@@ -58,62 +58,75 @@ def laid_in(lists, forms):
 # The papers straight within a paper, each with the lists with which it is read; None where the paper itself
 # isn't right.
 def papers_within(names, lists, paper):
-    if is_paper(paper, "or", 3):
-        return papers_of_or(lists, paper[1], paper[2])
-    if is_paper(paper, "cut", 5):
-        return papers_of_cut(names, lists, paper)
-    if is_paper(paper, "sum", 2) and is_sum(lists[0], paper[1]):
+    parts = plain_tuple(paper)
+    if is_kind(parts, "or", 3) and is_whole(parts[1]):
+        return papers_of_or(lists, int(parts[1]), parts[2])
+    if is_kind(parts, "cut", 5) and is_whole(parts[2]):
+        return papers_of_cut(names, lists, parts[1], int(parts[2]), parts[3:])
+    if is_kind(parts, "sum", 2) and is_sum(lists[0], plain_rows(parts[1])):
         return []
-    if is_paper(paper, "rest", 3) and is_rest(lists[0], paper[1], paper[2]):
+    if is_kind(parts, "rest", 3) and is_whole(parts[1]) and is_rest(lists[0], int(parts[1]), plain_rows(parts[2])):
         return []
     return None
 
 
-# Anything may be handed in for a paper or a part of it: nothing is asked of it ahead of what it is.
-def is_paper(paper, kind, length):
-    if not isinstance(paper, tuple) or len(paper) != length:
-        return False
-    return isinstance(paper[0], str) and paper[0] == kind
+# Anything may be handed in for a paper or a part of it, also of a class that stands under tuple, int or str and
+# answers as it likes. So what is reckoned with is a plain copy of each part, or the program's own. What is no
+# tuple, or no row of whole numbers, becomes the empty tuple, which shows nothing.
+def plain_tuple(thing):
+    return tuple(thing) if isinstance(thing, tuple) else ()
 
 
-def is_whole(number):
-    return isinstance(number, int) and not isinstance(number, bool)
+def plain_rows(thing):
+    return [plain_row(row) for row in plain_tuple(thing)]
+
+
+def plain_row(thing):
+    parts = plain_tuple(thing)
+    return tuple([int(part) for part in parts]) if all([is_whole(part) for part in parts]) else ()
+
+
+def is_whole(thing):
+    return isinstance(thing, int) and not isinstance(thing, bool)
+
+
+def is_kind(parts, kind, length):
+    return len(parts) == length and isinstance(parts[0], str) and parts[0] == kind
 
 
 def is_place(number, places):
-    return is_whole(number) and 0 <= number and number < len(places)
+    return 0 <= number and number < len(places)
 
 
+# Of an or without members the papers are the empty tuple, so what is no tuple is told apart here.
 def papers_of_or(lists, number, papers):
     if not is_place(number, lists[1]) or not isinstance(papers, tuple):
         return None
     members = lists[1][number]
-    if len(papers) != len(members):
+    inner = plain_tuple(papers)
+    if len(inner) != len(members):
         return None
-    return [(laid_in(lists, [member]), one) for member, one in zip(members, papers)]
+    return [(laid_in(lists, [member]), one) for member, one in zip(members, inner)]
 
 
-def papers_of_cut(names, lists, paper):
-    box = paper[1]
-    number = paper[2]
-    if not isinstance(box, str) or box not in names or not is_whole(number):
+def papers_of_cut(names, lists, box, number, papers):
+    boxes = [name for name in names if isinstance(box, str) and name == box]
+    if len(boxes) != 1:
         return None
-    low = laid_in(lists, [at_most(box, number)])
-    high = laid_in(lists, [at_least(box, number + 1)])
-    return [(low, paper[3]), (high, paper[4])]
+    low = laid_in(lists, [at_most(boxes[0], number)])
+    high = laid_in(lists, [at_least(boxes[0], number + 1)])
+    return [(low, papers[0]), (high, papers[1])]
 
 
 def is_sum(atoms, rows):
-    if not isinstance(rows, tuple) or not all([is_sum_row(atoms, row) for row in rows]):
+    if not all([is_sum_row(atoms, row) for row in rows]):
         return False
     whole = added_up(atoms, rows)
     return whole[1] == () and whole[0] > 0
 
 
 def is_sum_row(atoms, row):
-    if not isinstance(row, tuple) or len(row) != 2:
-        return False
-    return is_atom(atoms, row[0], "most") and is_whole(row[1]) and row[1] > 0
+    return len(row) == 2 and is_atom(atoms, row[0], "most") and row[1] > 0
 
 
 def is_atom(atoms, number, kind):
@@ -132,22 +145,18 @@ def added_up(atoms, rows):
 
 
 def is_rest(atoms, divisor, rows):
-    if not is_whole(divisor) or divisor < 2 or not isinstance(rows, tuple):
-        return False
-    if not all([is_rest_row(atoms, divisor, row) for row in rows]):
+    if divisor < 2 or not all([is_rest_row(atoms, divisor, row) for row in rows]):
         return False
     whole = added_up(atoms, rows)
     return whole[0] % divisor != 0 and all([times % divisor == 0 for box, times in whole[1]])
 
 
 def is_rest_row(atoms, divisor, row):
-    if not isinstance(row, tuple) or len(row) not in (2, 3):
-        return False
-    if not is_whole(row[-1]) or row[-1] == 0:
-        return False
     if len(row) == 3:
-        return is_zero_pair(atoms, row[0], row[1])
-    return is_atom(atoms, row[0], "rest") and row[1] * atoms[row[0]][2] % divisor == 0
+        return is_zero_pair(atoms, row[0], row[1]) and row[2] != 0
+    if len(row) == 2:
+        return is_atom(atoms, row[0], "rest") and row[1] != 0 and row[1] * atoms[row[0]][2] % divisor == 0
+    return False
 
 
 # Two sums that together are 0, and neither of them above 0: so both are 0.

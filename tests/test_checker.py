@@ -380,6 +380,82 @@ class Anything(Case):
             self.assertIs(let_by(ROWS, forms + [("or", (FALSE, FALSE))], ("or", 1, (NO, paper))), False)
 
 
+class Number(int):
+    """A number that tells everybody what they like to hear."""
+
+    def __gt__(self, other):
+        return True
+
+    __lt__ = __ge__ = __le__ = __ne__ = __gt__
+
+    def __eq__(self, other):
+        return True
+
+    __hash__ = int.__hash__
+
+    def __mul__(self, other):
+        return 1
+
+    __rmul__ = __add__ = __radd__ = __mod__ = __rmod__ = __mul__
+
+    def __neg__(self):
+        return 1
+
+
+class Text(str):
+    def __eq__(self, other):
+        return True
+
+    def __hash__(self):
+        return hash("x")
+
+
+class Pair(tuple):
+    """A tuple that has another length, and gives something else each time it is asked."""
+
+    def __len__(self):
+        return 2
+
+    def __getitem__(self, place):
+        return self.__dict__.setdefault("asked", []).append(place) or len(self.asked)
+
+
+class Liars(Case):
+    """Of these rows and forms there is a book: nothing may be let by."""
+
+    def test_numbers(self):
+        forms = [most(5, ("x", -1)), most(-9, ("x", 1)), rest(2, 1, ("x", 1)), ("or", (most(0),))]
+        rows = [("x", 0, 9)]
+        self.assertTrue(has_book(rows, forms))
+        for number in (-1, 0, 1, 2, 3, 4, 5, 6, 99):
+            liar = Number(number)
+            for place in range(7):
+                for other in range(7):
+                    self.no(rows, forms, ("sum", ((place, liar), (other, 1))))
+                    self.no(rows, forms, ("sum", ((place, 1), (liar, other))))
+                    self.no(rows, forms, ("rest", 2, ((place, other, liar),)))
+                    self.no(rows, forms, ("rest", liar, ((place, 1), (place, other, 1))))
+                    self.no(rows, forms, ("rest", liar, ((place, liar), (place, liar, other))))
+            self.no(rows, forms, ("or", liar, ()))
+            self.no(rows, forms, ("or", liar, (("sum", ((liar, liar),)),)))
+            self.no(rows, forms, ("cut", "x", liar, ("sum", ((0, 1), (5, 1))), ("sum", ((1, 1), (5, 1)))))
+
+    def test_texts(self):
+        rows = [("x", 0, 9), ("y", 0, 9)]
+        for box in ("x", "y", "z", "@h"):
+            self.no(rows, [], ("cut", Text(box), 3, ("sum", ((4, 1), (1, 1))), ("sum", ((4, 1), (1, 1)))))
+        self.no(rows, [], (Text("sum"), ((4, 1), (1, 1))))
+        self.no(rows, [most(0)], (Text("or"), 0, ()))
+
+    def test_tuples(self):
+        for forms in ([most(0)], [("or", (most(0), most(0)))], [rest(2, 0)], [FALSE, most(0)]):
+            for parts in ((), (0,), (0, 1), (0, 0, 1), ((0, 1), (0, 1))):
+                for paper in (Pair(parts), ("sum", Pair(parts)), ("sum", (Pair(parts),)), ("rest", 2, Pair(parts)),
+                              ("rest", 2, (Pair(parts),)), Pair(("sum", (parts,))), Pair(("sum", parts))):
+                    self.no([], forms, paper)
+            self.no([], [("or", (most(0), most(0)))], ("or", 0, Pair()))
+
+
 def some_forms(rng):
     told = []
     for _ in range(rng.randrange(1, 4)):
