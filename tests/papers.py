@@ -1,5 +1,6 @@
 """Papers for the tests, made the slow way: each box is cut down to one value, then a false atom is shown."""
 
+from calm.checker import let_by
 from calm.sums import value
 from tests.samples import books_within
 
@@ -75,3 +76,31 @@ def rest_paper(atoms, place, book):
     for box, times in atoms[place][1][1]:
         rows.append((atoms.index(at_most(box, book[box])), atoms.index(at_least(box, book[box])), -times))
     return ("rest", atoms[place][2], tuple(rows))
+
+
+def deep_of(paper):
+    if paper[0] in ("sum", "rest"):
+        return 1
+    inner = paper[2] if paper[0] == "or" else paper[3:]
+    return 1 + max((deep_of(one) for one in inner), default=0)
+
+
+def numbers_in(paper):
+    """Every whole number that a paper has."""
+    if isinstance(paper, tuple):
+        return [number for part in paper for number in numbers_in(part)]
+    return [paper] if isinstance(paper, int) else []
+
+
+def is_right(rows, forms, answer):
+    """Whether what the maker tells is so, by the words of its point alone."""
+    if answer[0] == "paper":
+        return len(answer) == 2 and let_by(rows, forms, answer[1]) and deep_of(answer[1]) <= 90
+    book = answer[1]
+    return (
+        answer[0] == "book" and len(answer) == 2
+        and sorted(book) == sorted(box for box, low, high in rows)
+        and all(isinstance(number, int) and not isinstance(number, bool) for number in book.values())
+        and all(low <= book[box] <= high for box, low, high in rows)
+        and all(is_true(form, book) for form in forms)
+    )

@@ -206,3 +206,39 @@ def books_within(rows):
     """All books with each box of the rows within its stretch."""
     for values in itertools.product(*(range(low, high + 1) for box, low, high in rows)):
         yield dict(zip((box for box, low, high in rows), values))
+
+
+# Forms over rows, ands and ors of none, one or more.
+
+def form_sum(rng, boxes, greatest):
+    named = sorted(rng.sample(boxes, rng.randrange(len(boxes) + 1)))
+    times = [times for times in range(-greatest, greatest + 1) if times]
+    return (rng.randrange(-3 * greatest, 3 * greatest + 1), tuple((box, rng.choice(times)) for box in named))
+
+
+def some_form(rng, deep, boxes, greatest):
+    if deep == 0 or rng.random() < 0.2:
+        one = form_sum(rng, boxes, greatest)
+        return ("most", one) if rng.random() < 0.7 else ("rest", one, rng.randrange(2, 13))
+    many = rng.choice((0, 1, 2, 2, 3, 3))
+    return (rng.choice(("and", "or")), tuple(some_form(rng, deep - 1, boxes, greatest) for _ in range(many)))
+
+
+def zero_form(one):
+    """That a sum is 0."""
+    return ("and", (("most", one), ("most", (-one[0], tuple((box, -times) for box, times in one[1])))))
+
+
+def some_stretches(rng, names):
+    rows = []
+    for name in rng.sample(names, rng.randrange(len(names) + 1)):
+        low = rng.randrange(-6, 6)
+        rows.append((name, low, low + rng.choice((0, 0, 1, 2, 3, 5))))
+    return rows
+
+
+def many_books(rows):
+    many = 1
+    for box, low, high in rows:
+        many *= high - low + 1
+    return many

@@ -1,0 +1,172 @@
+"""Books and drafts sought by points: a point that keeps to the atoms shows where to split an or or cut a stretch [29].
+
+Far fewer splits are needed than by halving, and long stretches do no harm; but how many is not known ahead, so they are
+counted.
+"""
+
+from calm.checker import MOST_DEEP, laid_in
+from calm.drafts import cut_members, laid_by, needs_of, without
+from calm.errors import TooMany
+from calm.forms import form_parts
+from calm.remarks import boxes_in
+from calm.residues import near, solved
+from calm.spans import common_over, least_over
+from calm.sums import value
+from calm.tableau import (
+    box_ends, copied, equal_pairs, is_beyond, keeps_to, lay_bound, point_of, settle, tableau_of,
+)
+
+MOST_LOOKS = 2000
+# One look goes through all parts of the forms, so of very many parts fewer looks are taken.
+MOST_WORK = 1000000
+# A draft's numbers have at most sixty figures, whatever the sums are: so many bits have no more.
+MOST_BITS = 199
+
+
+class Quest:
+    def __init__(self, rows, forms, most):
+        self.boxes = [box for box, low, high in rows]
+        self.form = ("and", tuple(forms))
+        self.most = most
+        self.looks_left = min(MOST_LOOKS, MOST_WORK // form_parts(self.form))
+
+
+# What is known at one point of the seeking: the bounds of most-atoms, the rests, the ors that are not split yet.
+class Scene:
+    def __init__(self, tableau):
+        self.tableau = tableau
+        self.rests = []
+        self.ors = []
+        self.clash = None
+
+
+# Told is ("book", book) or ("draft", draft, needs), or it is refused with TooMany(most).
+def sought(rows, forms, most):
+    quest = Quest(rows, forms, most)
+    return seek(quest, scene_with(Scene(tableau_of(rows)), quest.form), 1)
+
+
+def scene_with(scene, form):
+    inner = Scene(copied(scene.tableau))
+    lists = laid_in(([], []), [form])
+    inner.ors = scene.ors + [("or", members) for members in lists[1]]
+    inner.rests = scene.rests + [atom for atom in lists[0] if atom[0] == "rest"]
+    for atom in lists[0]:
+        if atom[0] == "most" and inner.clash is None:
+            inner.clash = lay_bound(inner.tableau, atom)
+    return inner
+
+
+def seek(quest, scene, deep):
+    if quest.looks_left == 0 or deep > MOST_DEEP:
+        raise TooMany(quest.most)
+    quest.looks_left = quest.looks_left - 1
+    clash = scene.clash
+    if clash is None:
+        clash = settle(scene.tableau)
+    if clash is not None:
+        return leaf(quest, ("sum", clash))
+    told = residues_of(quest, scene)
+    if told[0] == "rest":
+        return leaf(quest, told)
+    point = point_for(quest, scene, told[1])
+    form = or_to_split(quest, scene, point)
+    if form is not None:
+        return split(quest, without_or(scene, form), ("or", form), form[1], deep)
+    if is_whole_point(scene, point):
+        return ("book", point[1])
+    cut = cut_at(quest, scene, point)
+    return split(quest, scene, ("cut", cut[0], cut[1]), cut_members(cut[0], cut[1]), deep)
+
+
+def leaf(quest, draft):
+    numbers = [row[-1] for row in draft[-1]] + [draft[1] if draft[0] == "rest" else 0]
+    if max([number.bit_length() for number in numbers]) > MOST_BITS:
+        raise TooMany(quest.most)
+    return ("draft", draft, needs_of(draft))
+
+
+def residues_of(quest, scene):
+    equations = [(pair[0][1], 0, pair) for pair in equal_pairs(scene.tableau)]
+    equations.extend([(rest[1], rest[2], (rest,)) for rest in scene.rests])
+    return solved(quest.boxes, equations)
+
+
+def true_at(form, point):
+    kind = form[0]
+    if kind == "or":
+        return any([true_at(member, point) for member in form[1]])
+    if kind == "and":
+        return all([true_at(member, point) for member in form[1]])
+    worth = value((form[1][0] * point[0], form[1][1]), point[1])
+    return worth <= 0 if kind == "most" else worth % (form[2] * point[0]) == 0
+
+
+# Of the ors that are false at the point one with fewest members left.
+def or_to_split(quest, scene, point):
+    ends = box_ends(scene.tableau, quest.boxes)
+    chosen = None
+    fewest = 0
+    for form in scene.ors:
+        if not true_at(form, point):
+            left = len([member for member in form[1] if not is_out(scene.tableau, ends, member)])
+            if chosen is None or left < fewest:
+                chosen = form
+                fewest = left
+    return chosen
+
+
+def is_out(tableau, ends, form):
+    kind = form[0]
+    if kind == "most":
+        return is_beyond(tableau, form) or least_over(form[1], ends) > 0
+    if kind == "rest":
+        return least_over(form[1], ends) % common_over(form[1], form[2], ends) != 0
+    out = [is_out(tableau, ends, member) for member in form[1]]
+    return any(out) if kind == "and" else all(out)
+
+
+def without_or(scene, form):
+    other = Scene(scene.tableau)
+    other.rests = scene.rests
+    other.ors = [one for one in scene.ors if one != form]
+    return other
+
+
+def split(quest, scene, head, members, deep):
+    drafts = []
+    needs = {head[1]: True} if head[0] == "or" else {}
+    for member in members:
+        answer = seek(quest, scene_with(scene, member), deep + 1)
+        laid = laid_by(member)
+        # What is shown without the member is shown without any split.
+        if answer[0] == "book" or not any([form in answer[2] for form in laid]):
+            return answer
+        drafts.append(answer[1])
+        needs.update(without(answer[2], laid))
+    return ("draft", head + (drafts,), needs)
+
+
+# A point of the tableau; where it is no book of the atoms, one near to it, if that is.
+def point_for(quest, scene, solving):
+    point = point_of(scene.tableau, quest.boxes)
+    if not is_whole_point(scene, point):
+        book = near(solving, point, box_ends(scene.tableau, quest.boxes))
+        if keeps_to(scene.tableau, book):
+            return (1, book)
+    return point
+
+
+def is_whole_point(scene, point):
+    return point[0] == 1 and all([true_at(rest, point) for rest in scene.rests])
+
+
+def cut_at(quest, scene, point):
+    for box in quest.boxes:
+        if point[1][box] % point[0] != 0:
+            return (box, point[1][box] // point[0])
+    ends = box_ends(scene.tableau, quest.boxes)
+    broken = [rest for rest in scene.rests if not true_at(rest, point)][0]
+    wide = [(ends[box][1] - ends[box][0], box) for box in boxes_in(broken)]
+    box = min([pair for pair in wide if pair[0] > 0])[1]
+    return (box, (ends[box][0] + ends[box][1]) // 2)
