@@ -48,12 +48,18 @@ def start_forms(program, annotation, hand):
 
 # Others are the places, tuples (hand, place), at which other hands are taken to stand.
 def step_forms(program, annotation, step, others, asked):
+    forms = given_forms(program, annotation, step, others)
+    forms.append(against_form(behind(asked, step[0], step[3], step[4])))
+    return forms
+
+
+# That the hands stand so, their remarks hold, and the step can be done.
+def given_forms(program, annotation, step, others):
     stood = [(step[0], step[1])] + others
     forms = [plain_form(("at", hand, place)) for hand, place in stood]
     forms.extend([plain_form(annotation[there]) for there in stood])
     forms.append(plain_form(step[2]))
     forms.extend(set_forms(program, step[3]))
-    forms.append(against_form(behind(asked, step[0], step[3], step[4])))
     return forms
 
 

@@ -4,7 +4,7 @@ Far fewer splits are needed than by halving, and long stretches do no harm; but 
 counted.
 """
 
-from calm.checker import MOST_DEEP, laid_in
+from calm.checker import MOST_DEEP, at_least, at_most, laid_in
 from calm.drafts import cut_members, laid_by, needs_of, without
 from calm.errors import TooMany
 from calm.forms import form_parts
@@ -19,6 +19,8 @@ from calm.tableau import (
 MOST_LOOKS = 2000
 # One look goes through all parts of the forms, so of very many parts fewer looks are taken.
 MOST_WORK = 1000000
+# A stretch is long where it pays to look which part of it is left.
+LONG = 100
 # A draft's numbers have at most sixty figures, whatever the sums are: so many bits have no more.
 MOST_BITS = 199
 
@@ -169,4 +171,34 @@ def cut_at(quest, scene, point):
     broken = [rest for rest in scene.rests if not true_at(rest, point)][0]
     wide = [(ends[box][1] - ends[box][0], box) for box in boxes_in(broken)]
     box = min([pair for pair in wide if pair[0] > 0])[1]
-    return (box, (ends[box][0] + ends[box][1]) // 2)
+    return (box, cut_within(scene.tableau, box, ends[box]))
+
+
+# Of a long stretch all that the atoms together don't leave is cut off at once; what they leave is halved.
+def cut_within(tableau, box, pair):
+    if pair[1] - pair[0] > LONG:
+        low = least_left(tableau, pair[0], pair[1], lambda number: at_most(box, number))
+        high = -least_left(tableau, -pair[1], -pair[0], lambda number: at_least(box, -number))
+        if high < pair[1]:
+            return high
+        if low > pair[0]:
+            return low - 1
+    return (pair[0] + pair[1]) // 2
+
+
+# The least number whose atom can be kept to; the greatest one's can.
+def least_left(tableau, least, greatest, atom_at):
+    low = least
+    high = greatest
+    while low < high:
+        half = (low + high) // 2
+        if can_keep_to(tableau, atom_at(half)):
+            high = half
+        else:
+            low = half + 1
+    return low
+
+
+def can_keep_to(tableau, atom):
+    other = copied(tableau)
+    return lay_bound(other, atom) is None and settle(other) is None

@@ -242,3 +242,63 @@ def many_books(rows):
     for box, low, high in rows:
         many *= high - low + 1
     return many
+
+
+# Small programs as texts, whose names are all known.
+
+def known_remark(rng, deep, boxes, hands):
+    """A remark whose ats name the labels that each hand has."""
+    remark = small_remark(rng, deep, boxes, [(hand, 1) for hand in hands])
+    return with_labels(rng, remark)
+
+
+def with_labels(rng, remark):
+    if remark[0] == "at":
+        return ("at", remark[1], rng.choice(("first", "last")))
+    if remark[0] == "not":
+        return ("not", with_labels(rng, remark[1]))
+    if remark[0] in ("and", "or"):
+        return (remark[0], tuple(with_labels(rng, member) for member in remark[1]))
+    return remark
+
+
+def known_rows(rng, deep, boxes, locks, hands):
+    rows = []
+    for _ in range(rng.randrange(1, 4)):
+        if rng.random() < 0.25:
+            rows.append(("say", known_remark(rng, 1, boxes, hands)))
+        rows.append(known_statement(rng, deep, boxes, locks, hands))
+    return rows
+
+
+def known_statement(rng, deep, boxes, locks, hands):
+    settable = [box for box in boxes if box not in locks]
+    word = rng.choice(("set", "set", "set", "wait", "take", "give") + (("if", "while", "either") if deep else ()))
+    if word in ("take", "give") and locks:
+        return (word, rng.choice(locks))
+    if word in ("if", "while", "either"):
+        inner = [known_rows(rng, deep - 1, boxes, locks, hands) for _ in range(2)]
+        if word == "either":
+            return ("either", tuple(inner))
+        return (word, known_remark(rng, 1, boxes, hands), *inner[:2 if word == "if" else 1])
+    if word == "wait":
+        return ("wait", known_remark(rng, 1, boxes, hands))
+    box = rng.choice(settable)
+    return ("set", ((box, step_sum(rng, box, boxes)),))
+
+
+def small_tree(rng):
+    boxes = [("x", 0, rng.randrange(1, 4), 0), ("y", -1, 1, rng.randrange(-1, 2))][:rng.randrange(1, 3)]
+    locks = ["l"][:rng.randrange(2)]
+    names = [box[0] for box in boxes] + locks
+    hands = ["p", "q", "r"][:rng.choice((1, 2, 2, 3))]
+    told = []
+    for hand in hands:
+        owns = [("k" + hand, 0, 1, rng.randrange(2))] if rng.random() < 0.3 else []
+        known = names + [own[0] for own in owns]
+        rows = [("label", "first")] + known_rows(rng, 1 if len(hands) < 3 else 0, known, locks, hands)
+        rows.append(("label", "last"))
+        if rng.random() < 0.3:
+            rows.append(("say", known_remark(rng, 2, names, hands)))
+        told.append((hand, owns, rows))
+    return (boxes, locks, told)
