@@ -85,13 +85,12 @@ def with_times(column, other, many):
     return added
 
 
-# The equations, each so many times, that leave of the settled columns the last alone, once; many of that would be no
-# whole number. Times are had from the last equation to the first, all of them over one divisor.
+# The equations, each so many times, that leave of the settled columns the last alone, once; but it would be no whole
+# number of it that fits. Times are had from the last equation to the first, all of them over one divisor.
 def clash_at_last(solving):
     last = len(solving.heads) - 1
-    head = solving.heads[last][last]
-    times = {last: 1 if head > 0 else -1}
-    divisor = abs(head)
+    times = {last: 1}
+    divisor = abs(solving.heads[last][last])
     for spot in list(range(last))[::-1]:
         head = solving.heads[spot][spot]
         over = sum([many * solving.heads[row][spot] for row, many in times.items()])
@@ -100,16 +99,8 @@ def clash_at_last(solving):
         for row in list(times):
             times[row] = times[row] * stretch
         times[spot] = -(over * stretch) // head
-    return clash_paper(solving, times, divisor)
-
-
-def clash_paper(solving, times, divisor):
-    common = divisor_of([divisor] + list(times.values()))
-    rows = []
-    for spot, many in times.items():
-        if many != 0:
-            rows.append(solving.equations[spot][2] + (many // common,))
-    return ("rest", divisor // common, rows)
+    rows = [solving.equations[spot][2] + (many,) for spot, many in times.items() if many != 0]
+    return ("rest", divisor, rows)
 
 
 # A book that fits, near a point as the tableau tells it. Each box in turn gets as near as the boxes ahead of it leave
@@ -127,9 +118,9 @@ def near(solving, point, ends):
 
 # How often to go on by the stride, to come near to the aim, but not beyond an end.
 def strides(start, stride, many, aim, pair):
-    nearest = (2 * (aim - start * many) + stride * many) // (2 * stride * many)
-    there = start + nearest * stride
-    ahead = 1 if stride > 0 else -1
+    there = start + stride * ((2 * (aim - start * many) + stride * many) // (2 * stride * many))
     if there < pair[0]:
-        return nearest + ahead
-    return nearest - ahead if there > pair[1] else nearest
+        there = there + abs(stride)
+    elif there > pair[1]:
+        there = there - abs(stride)
+    return (there - start) // stride

@@ -19,6 +19,8 @@ from calm.tableau import (
 MOST_LOOKS = 2000
 # One look goes through all parts of the forms, so of very many parts fewer looks are taken.
 MOST_WORK = 1000000
+# Each rest is met with each other one, so that one look at many of them counts for more.
+MANY_RESTS = 30
 # A stretch is long where it pays to look which part of it is left.
 LONG = 100
 # A draft's numbers have at most sixty figures, whatever the sums are: so many bits have no more.
@@ -60,9 +62,10 @@ def scene_with(scene, form):
 
 
 def seek(quest, scene, deep):
-    if quest.looks_left == 0 or deep > MOST_DEEP:
+    cost = 1 + (len(scene.rests) // MANY_RESTS) ** 2
+    if quest.looks_left < cost or deep > MOST_DEEP:
         raise TooMany(quest.most)
-    quest.looks_left = quest.looks_left - 1
+    quest.looks_left = quest.looks_left - cost
     clash = scene.clash
     if clash is None:
         clash = settle(scene.tableau)
@@ -96,12 +99,18 @@ def residues_of(quest, scene):
 
 def true_at(form, point):
     kind = form[0]
-    if kind == "or":
-        return any([true_at(member, point) for member in form[1]])
-    if kind == "and":
-        return all([true_at(member, point) for member in form[1]])
+    if kind in ("and", "or"):
+        return any_is(kind == "or", form[1], point) == (kind == "or")
     worth = value((form[1][0] * point[0], form[1][1]), point[1])
     return worth <= 0 if kind == "most" else worth % (form[2] * point[0]) == 0
+
+
+# A loop that ends early: forms are asked of very many points.
+def any_is(wanted, members, point):
+    for member in members:
+        if true_at(member, point) == wanted:
+            return True
+    return False
 
 
 # Of the ors that are false at the point one with fewest members left.

@@ -107,6 +107,9 @@ class Answers(Case):
         self.assertEqual(tell("box x 0 9 3\nhand p\nwait x <= 2\nend", "least 0 1"), "p 0: 3..3\np 1: none")
         self.assertEqual(tell("hand p\nwait false\nend", "least 0 1"), "p 0:\np 1: none")
         self.refused(TEXT, "least 0 1000000", TooMany, "most", 0)
+        text = ("box x 0 W 0\nbox y 0 W 0\nhand p\neither\nset x = 0 , y = 0\nor\nset x = V , y = V\nend\n"
+                "wait 3 * x - 3 * y >= 1 and 3 * x - 3 * y <= 2\nend").replace("W", "1" + "0" * 30)
+        self.refused(text.replace("V", "999999999"), "least 9 77", TooMany, "most", 77)
         self.refused("box x 0 9 0\nhand p\nwhile x < 2\nset x = x + 1\nend\nend", "least 2 1000000", TooMany, "most", 2)
         self.assertEqual(tell("box x -9 9 -3\nhand p\nset x = x - 1\nend", "least 1 1000"), "p 0: -3..-3\np 1: -4..-4")
 
@@ -176,7 +179,7 @@ class Questions(Case):
             "weave -1", "weave 1000001", "weave 00", "weave x", "weave 0,1", "weave 0\n1", "straight ", "straight -1",
             "straight 1000001", "straight 01", "straight  1", "straight 1 ", "straight a", "locks ", "locks 1", "lock",
             "none", "tell", "weave" + " 0" * 3 + " 1" * 0 + " 99999999999999999999", "breach " + "9" * 5000,
-            "not enough", "shown", "weave\t0", "places,",
+            "not enough", "shown", "weave\t0", "places,", "what 1", "what 1 1", "leas 1 1", "Court 1 1", "what",
         ):
             self.none(question)
 
@@ -184,6 +187,11 @@ class Questions(Case):
         self.assertEqual(tell(LONE, "breach 1000000"), "none")
         self.assertEqual(tell(LONE, "breach 2"), "none")
         self.assertTrue(tell(LONE, "court 1000000 1000000").startswith("shown\n"))
+        for question in ("court 1 1", "court 1 1000000", "court 1000000 1"):
+            try:
+                self.assertTrue(tell(LONE, question).startswith("shown\n"))
+            except TooMany as refusal:
+                self.assertEqual(refusal.most, 1)
         self.assertEqual(tell(LONE, "least 1000 1000000"), "p 0:\np 1:")
         self.assertTrue(tell(LONE, "finite 1000000").startswith("shown\n"))
 

@@ -4,7 +4,7 @@ from calm.checker import at_least, at_most, first_lists, laid_in, let_by
 from calm.drafts import laid_by, needs_of, numbered
 from calm.halving import books_within, ends_of, halved
 from calm.spans import seen_over
-from tests.papers import has_book, is_right, is_true
+from tests.papers import deep_of, has_book, is_right, is_true
 from tests.samples import books_within as all_books
 from tests.samples import many_books, some_form, some_stretches, source_of
 
@@ -91,10 +91,17 @@ class Halved(unittest.TestCase):
 
     def test_ends_turned_about(self):
         rows = [("x", 0, 9), ("y", 0, 9)]
-        forms = [at_least("x", 6), ("rest", (1, (("x", 2),)), 2), at_most("x", 5)]
+        forms = [("rest", (1, (("x", 1),)), 5), at_least("x", 6), at_most("x", 5)]
         told = answer(rows, forms)
-        self.assertEqual(told, ("paper", ("sum", ((4, 1), (6, 1)))))
+        self.assertEqual(told, ("paper", ("sum", ((5, 1), (6, 1)))))
         self.assertTrue(let_by(rows, forms, told[1]))
+
+    def test_long_stretches_are_not_deep(self):
+        rows = [("x", 0, 119), ("y", 0, 119)]
+        forms = [most(1, ("x", -3), ("y", 3)), most(-2, ("x", 3), ("y", -3))]
+        told = answer(rows, forms)
+        self.assertTrue(is_right(rows, forms, told))
+        self.assertLessEqual(deep_of(told[1]), 15)
 
     def test_what_is_not_needed_is_not_cut(self):
         rows = [("x", 0, 9), ("y", 0, 99)]

@@ -216,6 +216,26 @@ class Great(unittest.TestCase):
             ("p", 1, guard, (("y", (0, ())),), 2)], ())
         self.assertEqual(least_stretches(program, 9, MILLION)[("p", 2)][0], (411527, 3827157))
 
+    def test_each_end(self):
+        # Every number of a stretch as the least and as the greatest that a guard leaves.
+        for low in range(-4, 9):
+            for high in range(low, 9):
+                guard = ("and", (("most", (low, (("x", -1),))), ("most", (-high, (("x", 1),)))))
+                program = ([("x", "", -4, 8, 0)], [("p", 3)], [
+                    ("p", 0, ("and", ()), (("x", (-4, ())),), 1), ("p", 0, ("and", ()), (("x", (8, ())),), 1),
+                    ("p", 1, guard, (), 2)], ())
+                self.assertEqual(least_stretches(program, 9, MILLION)[("p", 2)], ((low, high),))
+
+    def test_each_end_where_other_numbers_are_left_out(self):
+        for low in range(-20, 20, 3):
+            for divisor in (2, 7, 12):
+                guard = ("and", (("most", (low, (("x", -1),))), ("rest", (1, (("x", 1),)), divisor)))
+                program = ([("x", "", -20, 40, 0)], [("p", 3)], [
+                    ("p", 0, ("and", ()), (("x", (-20, ())),), 1), ("p", 0, ("and", ()), (("x", (40, ())),), 1),
+                    ("p", 1, guard, (), 2)], ())
+                left = [number for number in range(low, 41) if (number + 1) % divisor == 0]
+                self.assertEqual(least_stretches(program, 9, MILLION)[("p", 2)], ((left[0], left[-1]),))
+
     def test_rows_ahead_of_rounds(self):
         # 1 <= 3x - 3y <= 2 has no short paper, so the maker is refused of the long stretches.
         wide = 10 ** 9

@@ -165,6 +165,16 @@ class Bound(Case):
             self.assertEqual(self.right(rows, forms, 4 * width * width), "paper")
             self.assertIn(self.right_or_refused(rows, forms, 4 * width * width - 1), ("paper", "refused"))
 
+    def test_no_paper_is_too_deep(self):
+        # Sought by points, these get deeper with the width, till they are too deep.
+        deepest = 0
+        for width in range(20, 110):
+            rows, forms = thirds(width)
+            answer = answer_of(rows, forms, 4 * width * width)
+            self.assertTrue(is_right(rows, forms, answer), width)
+            deepest = max(deepest, deep_of(answer[1]))
+        self.assertGreaterEqual(deepest, 89)
+
     def test_what_has_no_short_paper_at_a_million(self):
         rows, forms = thirds(500)
         self.assertEqual(bound_of(rows, forms), MILLION)

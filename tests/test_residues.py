@@ -1,7 +1,7 @@
 import itertools
 import unittest
 
-from calm.residues import near, solved
+from calm.residues import near, solved, strides
 from calm.sums import by, plus, value
 from tests.samples import form_sum, source_of
 
@@ -89,10 +89,28 @@ class Residues(unittest.TestCase):
             self.assertEqual(near(told[1], (1, {"x": aim}), {"x": ends}), {"x": book}, (aim, ends))
 
     def test_long_stretches_bear_what_is_left(self):
-        for ends in ({"x": (0, 1), "y": (0, 10 ** 30)}, {"y": (0, 1), "x": (0, 10 ** 30)}):
+        wide = 10 ** 30
+        for ends in ({"x": (0, 1), "y": (0, wide)}, {"y": (0, 1), "x": (0, wide)}, {"x": (5, 6), "y": (-wide, wide)},
+                     {"x": (-wide, wide), "y": (-6, -5)}, {"x": (-wide, 0), "y": (1, 1)}, {"x": (1, 1), "y": (-wide, 0)}):
             told = solved(["x", "y"], [((-5, (("x", 1), ("y", 1))), 12, ("one",))])
-            book = near(told[1], (1, {"x": 0, "y": 0}), ends)
+            book = near(told[1], (1, {box: pair[0] for box, pair in ends.items()}), ends)
             self.assertTrue(all(ends[box][0] <= book[box] <= ends[box][1] for box in ends), book)
+
+
+    def test_strides(self):
+        for start in (-9, 0, 4):
+            for stride in (-7, -1, 1, 3):
+                for many in (1, 2, 5):
+                    for aim in range(-30, 31, 4):
+                        places = [start + stride * often for often in range(-200, 200)]
+                        there = start + stride * strides(start, stride, many, aim, (-9 ** 9, 9 ** 9))
+                        self.assertEqual(abs(many * there - aim), min(abs(many * place - aim) for place in places))
+                        low = -(-aim // many)
+                        there = start + stride * strides(start, stride, many, aim, (low, 9 ** 9))
+                        self.assertTrue(low <= there < low + 7)
+                        high = aim // many
+                        there = start + stride * strides(start, stride, many, aim, (-9 ** 9, high))
+                        self.assertTrue(high - 7 < there <= high)
 
 
 if __name__ == "__main__":

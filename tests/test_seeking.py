@@ -5,7 +5,8 @@ from calm import seeking
 from calm.checker import first_lists, laid_in
 from calm.drafts import needs_of, numbered
 from calm.errors import TooMany
-from calm.seeking import sought
+from calm.seeking import cut_within, is_out, sought
+from calm.tableau import lay_bound, settle, tableau_of
 from tests.papers import has_book, is_right
 from tests.samples import some_form, some_stretches, source_of, zero_form
 
@@ -69,6 +70,55 @@ class Sought(unittest.TestCase):
             self.assertEqual(told[0], "book")
             self.assertTrue(is_right(rows, forms, told), told)
 
+    def test_few_looks(self):
+        # Ors that don't matter, or of which one member is left, and ends that only sums tell, cost next to nothing.
+        wide = 10 ** 30
+        rows = [("b%d" % number, 0, 9) for number in range(8)] + [("x", -wide, wide), ("y", -wide, wide)]
+        loose = [("or", (most(1, ("b%d" % number, -1)), most(-8, ("b%d" % number, 1)))) for number in range(8)]
+        unlike = [("or", (most(1, ("b%d" % number, 1), ("b%d" % (number + 1), -1)), most(20, ("b%d" % number, -1))))
+                  for number in range(7)]
+        for looks, forms in (
+            (40, loose + unlike + [zero_form((1, (("x", 2), ("y", -2))))]),
+            (40, unlike + [most(-6, ("b7", 1))]),
+            (40, loose + unlike),
+            (20, [most(-7, ("x", 2)), most(3, ("x", -1)), ("rest", (0, (("x", 1),)), 7)]),
+            (20, [most(1, ("x", -2), ("y", 1)), most(-9, ("x", 2)), most(0, ("y", -1)), ("rest", (0, (("x", 1),)), 5)]),
+            (20, [most(1, ("x", -1), ("y", 1)), most(-90, ("x", 1), ("y", 1)), most(85, ("y", -2)),
+                  ("rest", (-46, (("x", 1),)), 12)]),
+        ):
+            with mock.patch.object(seeking, "MOST_LOOKS", looks):
+                told = answer(rows, forms)
+            self.assertTrue(is_right(rows, forms, told), forms)
+
+    def test_members_that_are_out(self):
+        tableau = tableau_of([("x", 0, 4), ("y", 3, 3)])
+        lay_bound(tableau, most(-5, ("x", 1), ("y", 1)))
+        ends = {"x": (0, 4), "y": (3, 3)}
+        out, left = most(5, ("x", -1)), most(4, ("x", -1))
+        for form, told in (
+            (out, True), (left, False), (most(6, ("x", -1), ("y", -1)), True), (most(5, ("x", -1), ("y", -1)), False),
+            (most(11, ("x", -2), ("y", -1)), False), (most(12, ("x", -2), ("y", -1)), True),
+            (("rest", (0, (("y", 1),)), 2), True), (("rest", (0, (("y", 1),)), 3), False),
+            (("rest", (1, (("x", 2),)), 4), True), (("rest", (2, (("x", 2),)), 4), False),
+            (("and", (left, out)), True), (("and", (left, left)), False), (("and", ()), False),
+            (("or", (left, out)), False), (("or", (out, out)), True), (("or", ()), True),
+        ):
+            self.assertIs(is_out(tableau, ends, form), told, form)
+
+    def test_cuts_of_long_stretches(self):
+        wide = 10 ** 30
+        for atoms, number in (
+            ([], 0), ([most(-9, ("x", 2))], 4), ([most(9, ("x", -2))], 4), ([most(-9, ("x", 1), ("y", 1))], 14),
+            ([most(9, ("x", -1), ("y", 1))], -1 + 4), ([most(0, ("x", 1), ("y", -1))], 5),
+        ):
+            tableau = tableau_of([("x", -wide, wide), ("y", -5, 5)])
+            for atom in atoms:
+                self.assertIsNone(lay_bound(tableau, atom))
+            self.assertIsNone(settle(tableau))
+            self.assertEqual(cut_within(tableau, "x", (-wide, wide)), number, atoms)
+        tableau = tableau_of([("x", 3, 8)])
+        self.assertEqual(cut_within(tableau, "x", (3, 8)), 5)
+
     def test_it_is_refused_after_so_many_looks(self):
         rows = [("x", 0, 9), ("y", 0, 9)]
         forms = [most(1, ("x", -3), ("y", 3)), most(-2, ("x", 3), ("y", -3))]
@@ -80,6 +130,17 @@ class Sought(unittest.TestCase):
             sought(rows, forms, 77)
         with mock.patch.object(seeking, "MOST_DEEP", 3), self.assertRaises(TooMany):
             sought(rows, forms, 77)
+
+    def test_very_many_rests_count_for_more(self):
+        rows = [("x", 0, 9), ("y", 0, 9)]
+        for many, refused in ((1, False), (59, False), (60, True), (30000, True)):
+            forms = [("rest", (12 * number, (("x", 12), ("y", 12))), 12) for number in range(many)]
+            with mock.patch.object(seeking, "MOST_LOOKS", 3):
+                if refused:
+                    with self.assertRaises(TooMany):
+                        sought(rows, forms, 1)
+                else:
+                    self.assertEqual(answer(rows, forms)[0], "book")
 
     def test_a_paper_has_no_longer_numbers(self):
         rows = [("x", -10 ** 30, 10 ** 30), ("y", -10 ** 30, 10 ** 30)]
