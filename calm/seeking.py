@@ -75,10 +75,11 @@ def seek(quest, scene, deep):
     if told[0] == "rest":
         return leaf(quest, told)
     point = point_for(quest, scene, told[1])
-    form = or_to_split(quest, scene, point)
+    whole = is_whole_point(scene, point)
+    form = or_to_split(quest, scene, point, whole)
     if form is not None:
         return split(quest, without_or(scene, form), ("or", form), form[1], deep)
-    if is_whole_point(scene, point):
+    if whole:
         return ("book", point[1])
     cut = cut_at(quest, scene, point)
     return split(quest, scene, ("cut", cut[0], cut[1]), cut_members(cut[0], cut[1]), deep)
@@ -97,29 +98,30 @@ def residues_of(quest, scene):
     return solved(quest.boxes, equations)
 
 
-def true_at(form, point):
+# Of a point that is not whole it says nothing that a sum is divided there: such forms count for false.
+def true_at(form, point, whole):
     kind = form[0]
     if kind in ("and", "or"):
-        return any_is(kind == "or", form[1], point) == (kind == "or")
+        return any_is(kind == "or", form[1], point, whole) == (kind == "or")
     worth = value((form[1][0] * point[0], form[1][1]), point[1])
-    return worth <= 0 if kind == "most" else worth % (form[2] * point[0]) == 0
+    return worth <= 0 if kind == "most" else whole and worth % form[2] == 0
 
 
 # A loop that ends early: forms are asked of very many points.
-def any_is(wanted, members, point):
+def any_is(wanted, members, point, whole):
     for member in members:
-        if true_at(member, point) == wanted:
+        if true_at(member, point, whole) == wanted:
             return True
     return False
 
 
 # Of the ors that are false at the point one with fewest members left.
-def or_to_split(quest, scene, point):
+def or_to_split(quest, scene, point, whole):
     ends = box_ends(scene.tableau, quest.boxes)
     chosen = None
     fewest = 0
     for form in scene.ors:
-        if not true_at(form, point):
+        if not true_at(form, point, whole):
             left = len([member for member in form[1] if not is_out(scene.tableau, ends, member)])
             if chosen is None or left < fewest:
                 chosen = form
@@ -169,7 +171,7 @@ def point_for(quest, scene, solving):
 
 
 def is_whole_point(scene, point):
-    return point[0] == 1 and all([true_at(rest, point) for rest in scene.rests])
+    return point[0] == 1 and all([true_at(rest, point, True) for rest in scene.rests])
 
 
 def cut_at(quest, scene, point):
@@ -177,7 +179,7 @@ def cut_at(quest, scene, point):
         if point[1][box] % point[0] != 0:
             return (box, point[1][box] // point[0])
     ends = box_ends(scene.tableau, quest.boxes)
-    broken = [rest for rest in scene.rests if not true_at(rest, point)][0]
+    broken = [rest for rest in scene.rests if not true_at(rest, point, True)][0]
     wide = [(ends[box][1] - ends[box][0], box) for box in boxes_in(broken)]
     box = min([pair for pair in wide if pair[0] > 0])[1]
     return (box, cut_within(scene.tableau, box, ends[box]))
